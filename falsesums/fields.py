@@ -28,6 +28,15 @@ def lowest(top, bottom):
     return (top // divisor, bottom // divisor)
 
 
+def common_bottom(numbers):
+    """The least whole number from 1 on that the bottom of each number divides."""
+    bottom = 1
+    for number in numbers:
+        if bottom % number[1]:
+            bottom = bottom // common_divisor(bottom, number[1]) * number[1]
+    return bottom
+
+
 def inverse(number, prime):
     """What gives 1 with number over the prime, which does not divide it."""
     rest, share = number % prime, 1

@@ -1,7 +1,7 @@
 """Fillings of systems: which they are, and all of them."""
 
 from falsesums.errors import TooMany
-from falsesums.fields import common_divisor
+from falsesums.fields import common_bottom
 from falsesums.kinds import is_row_of_bits
 
 MOST_FILLED_PLACES = 12
@@ -50,9 +50,7 @@ def worths_everywhere(one, places):
 
 def whole_terms(one):
     """The terms with whole numbers: all are multiplied alike by what leaves their signs."""
-    bottom = 1
-    for product, number in one.terms():
-        bottom = bottom // common_divisor(bottom, number[1]) * number[1]
+    bottom = common_bottom([number for product, number in one.terms()])
     return [(product, bottom // number[1] * number[0]) for product, number in one.terms()]
 
 

@@ -1,10 +1,12 @@
-"""What the tests share: things of other kinds, and an own reckoning with Python's fractions."""
+"""What the tests share: things of other kinds, an own reckoning with Python's fractions, and known systems."""
 
+import itertools
 import random
 from fractions import Fraction
 
 from falsesums.fields import Field
 from falsesums.sums import Sum
+from falsesums.systems import System
 
 PRIMES = [2, 3, 5, 7, 11, 13, 17, 19, 23, 29, 31, 37, 41, 43, 47, 53, 59, 61, 67, 71, 73, 79, 83, 89, 97]
 
@@ -91,6 +93,126 @@ def some_sum(field, places, many, chance):
 def seeded(seed):
     """Chance that is the same in each run."""
     return random.Random(seed)
+
+
+def fraction_of(number):
+    """A number of a field as a Fraction."""
+    return Fraction(number[0], number[1])
+
+
+def rest_of(field, fraction):
+    """A Fraction as it is in the field: itself, or, over a prime, what it leaves."""
+    return Fraction(number_of(field, fraction)[0]) if field.prime() else Fraction(fraction)
+
+
+def products_by_hand(places, size):
+    """All products of at most so many places, fewer first."""
+    return [product for many in range(min(size, places) + 1) for product in itertools.combinations(range(places), many)]
+
+
+def added_by_hand(field, pairs):
+    """Pairs of sums multiplied and added up: a dict from products to what isn't nought in the field."""
+    totals = {}
+    for one, other in pairs:
+        for product, number in one.terms():
+            for more, factor in other.terms():
+                both = tuple(sorted({*product, *more}))
+                totals[both] = totals.get(both, Fraction(0)) + fraction_of(number) * fraction_of(factor)
+    totals = {product: rest_of(field, total) for product, total in totals.items()}
+    return {product: total for product, total in totals.items() if total}
+
+
+def showing_by_hand(system, degree, thing):
+    """Whether a list of sums over the field, one for each nought, is a showing."""
+    for one, nought in zip(thing, system.noughts(), strict=True):
+        if len(one) and one.degree() + nought.degree() > degree:
+            return False
+    return added_by_hand(system.field(), zip(thing, system.noughts())) == {(): 1}
+
+
+def worth_by_worths(worths, field, one):
+    """What a sum is worth, reckoned with Fractions."""
+    return rest_of(field, sum((fraction_of(number) * fraction_of(worths[product]) for product, number in one.terms()),
+                              Fraction(0)))
+
+
+def worths_by_hand(system, degree, thing):
+    """Whether a dict from products to numbers of the field is worths."""
+    field = system.field()
+    if set(thing) != set(products_by_hand(system.places(), degree)) or thing[()] != (1, 1):
+        return False
+    for nought in system.noughts():
+        for product in products_by_hand(system.places(), degree - nought.degree()):
+            multiple = Sum(field, [(product, (1, 1))]).times(nought)
+            if worth_by_worths(thing, field, multiple) != 0:
+                return False
+    return True
+
+
+def reduced_by_hand(rows, prime):
+    """Rows, dicts from columns to Fractions or, over a prime, whole numbers, reduced one by one; told by their heads."""
+    found = {}
+    for row in rows:
+        row = dict(row)
+        for head, other in found.items():
+            factor = row.get(head, 0)
+            for column, number in other.items():
+                row[column] = row.get(column, 0) - factor * number
+                row[column] = row[column] % prime if prime else row[column]
+        row = {column: number for column, number in row.items() if number}
+        if row:
+            head = max(row)
+            factor = pow(int(row[head]), -1, prime) if prime else 1 / row[head]
+            row = {column: number * factor % prime if prime else number * factor for column, number in row.items()}
+            found[head] = row
+    return found
+
+
+def multiples_by_hand(system, degree):
+    """The rows of all noughts times products within the degree; column 0 is the empty product."""
+    products = products_by_hand(system.places(), degree)
+    rows = []
+    for nought in system.noughts():
+        for product in products_by_hand(system.places(), degree - nought.degree()):
+            multiple = Sum(system.field(), [(product, (1, 1))]).times(nought)
+            rows.append({products.index(one): rest_of(system.field(), fraction_of(number))
+                         for one, number in multiple.terms()})
+    return rows
+
+
+def showing_is_there(system, degree):
+    """Whether 1 is a sum of multiples, by plain elimination."""
+    return 0 in reduced_by_hand(multiples_by_hand(system, degree), system.field().prime())
+
+
+def place(number, field=None):
+    """The sum of one place."""
+    return Sum(FRACTIONS if field is None else field, [((number,), (1, 1))])
+
+
+def constant(field, top, bottom=1):
+    """The sum of a number alone."""
+    return Sum(field, [((), field.made(top, bottom))])
+
+
+def linear(field, places, least):
+    """The sum of these places, less a number."""
+    return Sum(field, [((at,), (1, 1)) for at in places]).plus(constant(field, -least))
+
+
+def guests(field, many, rooms):
+    """Each guest is in one room, and each room has one guest."""
+    return System(field, many * rooms, [linear(field, range(guest * rooms, (guest + 1) * rooms), 1)
+                                        for guest in range(many)]
+                  + [linear(field, range(room, many * rooms, rooms), 1) for room in range(rooms)])
+
+
+def some_system(field, chance, most_places=4, most_noughts=3, uppers=0):
+    """A system made by chance with a seed."""
+    places = chance.randint(1, most_places)
+    noughts = [some_sum(field, places, chance.randint(0, 4), chance) for _ in range(chance.randint(0, most_noughts))]
+    above = [some_sum(field, places, chance.randint(0, 3), chance) for _ in range(chance.randint(0, uppers))]
+    return System(field, places, noughts, [] if field.prime() else above)
 
 
 FRACTIONS = Field()

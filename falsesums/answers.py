@@ -104,6 +104,7 @@ def made_paper(lines, rows, number):
     for source, top in shares:
         for column, factor in rows[source]:
             totals[column] += top * factor
-    if any(totals[1:]) or totals[0] == 0:
+    if any(totals[1:]):
         return None
+    # In the first column something is left, as it is so over the prime.
     return {source: lowest(top, totals[0]) for source, top in shares}

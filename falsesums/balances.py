@@ -2,22 +2,13 @@
 
 from falsesums.answers import answer
 from falsesums.bases import settled
-from falsesums.fields import Field, common_bottom, common_divisor, lowest
+from falsesums.fields import Field, lowest, whole_tops
 
 
 def whole_column(numbers):
-    """A tuple of fractions as whole numbers, tuples (place, number), and of what they were multiplied by.
-
-    Noughts are left out, and what multiplies is above nought.
-    """
-    bottom = common_bottom(numbers)
-    tops = [bottom // number[1] * number[0] for number in numbers]
-    divisor = 0
-    for top in tops:
-        divisor = common_divisor(divisor, top)
-    if divisor == 0:
-        return ([], (1, 1))
-    return ([(place, top // divisor) for place, top in enumerate(tops) if top], lowest(bottom, divisor))
+    """Fractions as tuples (place, whole number), noughts left out, and the number that multiplied them."""
+    tops, factor = whole_tops(numbers)
+    return ([(place, top) for place, top in enumerate(tops) if top], factor)
 
 
 def balance(columns, goal):

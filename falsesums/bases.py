@@ -60,9 +60,9 @@ class Basis:
         return self.bottom if source == place else 0
 
     def widen(self, width):
-        """Makes room in all sides for numbers of this width."""
+        """Makes room in all sides for numbers of this width, their signs counted."""
         if width > self.width:
-            wider = width + width // 2
+            wider = width + width // 4 + SPARE_BITS
             self.sides = {source: packed(self.listed(side), wider) for source, side in self.sides.items()}
             self.width = wider
 
@@ -86,7 +86,7 @@ class Basis:
     def rates(self, at):
         """How much the column of this number is of what stands at each place."""
         column = self.columns[at]
-        self.widen(self.height + sum([abs(number) for source, number in column]).bit_length() + 2)
+        self.widen(self.height + sum([abs(number) for source, number in column]).bit_length() + 1)
         lacking = [0] * self.size
         side = 0
         for source, number in column:
@@ -136,7 +136,9 @@ class Basis:
         rates = self.rates(at)
         pivot = rates[place]
         sign = 1 if pivot > 0 else -1
-        self.widen(self.height + max([abs(rate) for rate in rates] + [self.bottom]).bit_length() + 2)
+        # Only what is divided by the bottom in the end must have room, and that grows by no more than this.
+        growth = max([abs(rate) for rate in rates]).bit_length() - self.bottom.bit_length() + 2
+        self.widen(self.height + max(growth, 1) + 1)
         if self.standing[place] is None:
             self.sides[place] = self.bottom << (self.width * place)
         turned = packed(rates, self.width) - (self.bottom << (self.width * place))

@@ -37,6 +37,18 @@ def common_bottom(numbers):
     return bottom
 
 
+def whole_tops(numbers):
+    """Fractions as whole numbers without a common divisor, and the number above nought that multiplied them."""
+    bottom = common_bottom(numbers)
+    tops = [bottom // number[1] * number[0] for number in numbers]
+    divisor = 0
+    for top in tops:
+        divisor = common_divisor(divisor, top)
+    if divisor == 0:
+        return (tops, (1, 1))
+    return ([top // divisor for top in tops], lowest(bottom, divisor))
+
+
 def inverse(number, prime):
     """What gives 1 with number over the prime, which does not divide it."""
     rest, share = number % prime, 1

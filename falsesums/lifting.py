@@ -55,7 +55,7 @@ def next_figures(prime, width, sides, goals):
 
 
 def solved(prime, width, sides, equations, goals):
-    """A tuple (tops, bottom): the unknowns that solve as many equations, which do so over the prime alone."""
+    """A tuple (tops, bottom): the unknowns, as many as equations, of which sides tells them over the prime."""
     left, modulus, rests = goals, 1, [0] * len(goals)
     figures, wanted = 0, 2
     while True:

@@ -40,9 +40,9 @@ class Lines:
         """The row as a line of its own, in which no other one has its head any more."""
         total = 1 << (self.width * (self.columns + len(self.lines)))
         for column, number in row:
-            total += number % self.modulus << (self.width * column)
+            total += (number % self.modulus) << (self.width * column)
             if column in self.line_at:
-                total += -number % self.modulus * self.lines[self.line_at[column]]
+                total += (-number % self.modulus) * self.lines[self.line_at[column]]
         return total
 
     def take(self, number, row):

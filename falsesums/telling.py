@@ -3,8 +3,8 @@
 from falsesums.answers import answer, rank
 from falsesums.degrees import all_products, checked_degree, many_products
 from falsesums.errors import TooMany
-from falsesums.fields import common_divisor
-from falsesums.masks import bottom_of, mask_of, mask_terms
+from falsesums.fields import whole_tops
+from falsesums.masks import mask_of, mask_terms
 from falsesums.sums import Sum
 
 MOST_TOLD_PRODUCTS = 600
@@ -22,15 +22,11 @@ def checked_size(system, degree):
 
 
 def whole_form(one):
-    """A tuple of the sum's terms, as masks and small whole numbers, and the number by which they were multiplied."""
-    bottom = bottom_of([one])
-    terms = mask_terms(one, bottom)
-    if one.field().prime() or not terms:
-        return (terms, one.field().made(1))
-    divisor = 0
-    for mask, number in terms:
-        divisor = common_divisor(divisor, number)
-    return ([(mask, number // divisor) for mask, number in terms], one.field().made(bottom, divisor))
+    """The terms of a sum as masks and small whole numbers, and the number that multiplied them."""
+    if one.field().prime():
+        return (mask_terms(one, 1), one.field().made(1))
+    tops, factor = whole_tops([number for product, number in one.terms()])
+    return ([(mask_of(product), top) for (product, number), top in zip(one.terms(), tops)], factor)
 
 
 def multiple(terms, mask, column_of, prime):

@@ -273,6 +273,48 @@ class Steps(Balancing):
                 for columns, goal in self.some_tables(198):
                     self.both_ways(columns, goal)
 
+    def test_with_no_more_room_than_is_needed(self):
+        def tight(basis, width):
+            if width > basis.width:
+                basis.sides = {source: bases.packed(basis.listed(side), width) for source, side in basis.sides.items()}
+                basis.width = width
+
+        for spare in (1, 2, 8):
+            with mock.patch.object(bases.Basis, "widen", tight), mock.patch.object(bases, "SPARE_BITS", spare):
+                for seed in (199, 200, 201):
+                    for columns, goal in self.some_tables(seed):
+                        self.both_ways(columns, goal)
+
+    def test_steps_that_would_go_round(self):
+        # With costs of nought, and if that went out of which least stands, these steps would come back.
+        def least(basis, places, amounts):
+            return min(places, key=lambda place: (abs(amounts[place]), place))
+
+        def watched(basis, place, at, parts):
+            swap(basis, place, at, parts)
+            if most == 10 ** 9 and basis.standing in seen:
+                raise RecursionError("it stood so before")
+            seen.append(list(basis.standing))
+
+        rows = [[0, -1, 2, 1], [-3, -2, -1, -3], [-3, 0, -3, -3], [0, -2, 0, -1], [-3, -1, 1, -2], [-1, 1, 0, -3],
+                [3, -1, 2, 0], [-3, -3, -3, 3], [-2, 1, 3, -3], [2, 2, -3, 0], [0, 1, 3, 1], [1, 0, 1, 2]]
+        columns = [[(place, number) for place, number in enumerate(row) if number] for row in rows]
+        goal = [3, 2, -2, 2]
+        swap = bases.Basis.swap
+        for most in (0, 7, 40, 10 ** 9):
+            seen = []
+            with mock.patch.object(bases, "some_costs", lambda many: [0] * many), \
+                    mock.patch.object(bases.Basis, "worst", least), \
+                    mock.patch.object(bases.Basis, "swap", watched), \
+                    mock.patch.object(bases, "MOST_FREE_STEPS", most):
+                if most == 10 ** 9:
+                    self.assertRaises(RecursionError, stepped, columns, list(enumerate(goal)), 4)
+                else:
+                    word, paper = stepped(columns, list(enumerate(goal)), 4)
+                    paper = [paper.get(at, (0, 1)) for at in range(len(rows))] if word == "shares" else paper
+                    self.looked_at(fractions_of(rows), fractions_of([goal])[0], (word, paper))
+                    self.assertGreater(len(seen), most)
+
     def test_costs_have_no_pattern(self):
         self.assertGreater(len(set(bases.some_costs(4000))), 3990)
         self.assertTrue(all(cost > 0 for cost in bases.some_costs(4000)))

@@ -262,6 +262,18 @@ class Worths(unittest.TestCase):
                 self.assertIs(lets_worths(system, degree + 1, good), degree >= 3)
                 self.assertIs(lets_worths(system, degree - 1, good), degree > 3)
 
+    def test_as_many_keys_but_one_with_too_many_places(self):
+        for field in SOME_FIELDS:
+            for noughts in ([], [place(0, field)]):
+                system = System(field, 3, noughts)
+                for degree in (0, 1, 2):
+                    good = {product: ONE if not product else (0, 1) for product in products_by_hand(3, degree)}
+                    for product in list(good)[1:]:
+                        thing = dict(good)
+                        del thing[product]
+                        thing[(0, 1, 2)] = (0, 1)
+                        self.assertIs(lets_worths(system, degree, thing), False)
+
     def test_a_key_that_is_a_truth(self):
         good = {(): ONE, (0,): (0, 1), (1,): (0, 1)}
         self.assertIs(lets_worths(System(SEVEN, 2, []), 1, good), True)

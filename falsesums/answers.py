@@ -20,30 +20,50 @@ def answer(prime, rows, columns):
     """
     if prime:
         return answer_over_prime(prime, rows, columns)
-    word, paper, many = exact_answer(rows, columns, [1] + [0] * (columns - 1))
+    word, paper, sources = exact_answer(rows, columns)
     return (word, paper)
+
+
+def exact_answer(rows, columns):
+    """As answer tells, over the fractions, and numbers of rows of which none is a sum of the others."""
+    prime = FIRST_PRIME
+    while True:
+        lines, found = taken_in(prime, rows, columns)
+        word = "held" if found is None else "made"
+        paper = Choice(lines, rows).paper(0) if found is None else made_paper(lines, rows, found[0])
+        if paper is not None:
+            return (word, paper, list(lines.sources))
+        prime = prime_below(prime)
 
 
 def rank(prime, rows, columns):
     """The rank of the rows; None where 1 in the first column is made of them."""
     if prime:
         return rank_over_prime(prime, rows, columns)
-    # Numbers without a pattern: a row that is a sum of the others over one prime alone would not fit them.
-    chosen = [1] + [(column * column * column + 7 * column) % 1009 + 1 for column in range(1, columns)]
-    word, paper, many = exact_answer(rows, columns, chosen)
-    return many if word == "held" else None
-
-
-def exact_answer(rows, columns, chosen):
-    """As answer tells, over the fractions, and the rank; columns that are free have the chosen numbers."""
     prime = FIRST_PRIME
     while True:
         lines, found = taken_in(prime, rows, columns)
-        word = "held" if found is None else "made"
-        paper = held_paper(lines, rows, chosen) if found is None else made_paper(lines, rows, found[0])
-        if paper is not None:
-            return (word, paper, len(lines.lines))
+        if found is None:
+            if is_whole_rank(lines, rows):
+                return len(lines.lines)
+        elif made_paper(lines, rows, found[0]) is not None:
+            return None
         prime = prime_below(prime)
+
+
+def is_whole_rank(lines, rows):
+    """Whether there are as many lines over the fractions as over the prime; there are never fewer.
+
+    Where each column that heads no line may be chosen alone, and all rows are worth 0 then, as many
+    columns are free over the fractions, too.
+    """
+    if len(lines.lines) == len(rows):
+        return True
+    choice = Choice(lines, rows)
+    for column in range(lines.columns):
+        if column not in lines.line_at and choice.paper(column) is None:
+            return False
+    return True
 
 
 def prime_below(number):
@@ -64,23 +84,45 @@ def is_odd_prime(number):
     return True
 
 
-def held_paper(lines, rows, chosen):
-    """Numbers for all columns by which each row is worth 0; None where the lines are the prime's alone."""
-    equations, goals = [], []
-    for source in lines.sources:
-        equations.append([(lines.line_at[column], number) for column, number in rows[source]
-                          if column in lines.line_at])
-        goals.append(-put_into([term for term in rows[source] if term[0] not in lines.line_at], chosen))
-    many = len(lines.lines)
-    shares = [lines.slots(line, lines.columns, many) for line in lines.lines]
-    sides = [packed([share[at] for share in shares], lines.width) for at in range(many)]
-    tops, bottom = solved(lines.modulus, lines.width, sides, equations, goals)
-    values = [number * bottom for number in chosen]
-    for head, top in zip(lines.heads, tops):
-        values[head] = top
-    if any([put_into(row, values) for row in rows]):
-        return None
-    return [lowest(value, bottom) for value in values]
+class Choice:
+    """A column that heads no line is worth 1, the others of that kind 0: what are the heads worth?"""
+
+    def __init__(self, lines, rows):
+        self.reduced = lines
+        self.left_rows = rows_without(rows, lines.sources)
+        self.equations = [[] for line in lines.lines]
+        # What each column that heads no line has in the rows of the equations.
+        self.chosen_terms = {}
+        for at, source in enumerate(lines.sources):
+            for column, number in rows[source]:
+                if column in lines.line_at:
+                    self.equations[at].append((lines.line_at[column], number))
+                else:
+                    self.chosen_terms.setdefault(column, []).append((at, number))
+        many = len(lines.lines)
+        shares = [lines.slots(line, lines.columns, many) for line in lines.lines]
+        self.sides = [packed([share[at] for share in shares], lines.width) for at in range(many)]
+
+    def paper(self, column):
+        """Numbers for all columns by which each row is worth 0; None where the lines are the prime's alone."""
+        lines = self.reduced
+        goals = [0] * len(self.equations)
+        for at, number in self.chosen_terms.get(column, []):
+            goals[at] = -number
+        tops, bottom = solved(lines.modulus, lines.width, self.sides, self.equations, goals)
+        values = [0] * lines.columns
+        values[column] = bottom
+        for head, top in zip(lines.heads, tops):
+            values[head] = top
+        if any([put_into(row, values) for row in self.left_rows]):
+            return None
+        return [lowest(value, bottom) for value in values]
+
+
+def rows_without(rows, numbers):
+    """The rows that have none of these numbers."""
+    left_out = {number: True for number in numbers}
+    return [row for number, row in enumerate(rows) if number not in left_out]
 
 
 def made_paper(lines, rows, number):

@@ -2,7 +2,7 @@
 
 import unittest
 
-from falsesums.answers import FIRST_PRIME
+from falsesums.answers import FIRST_PRIME, prime_below
 from falsesums.errors import NoDegree, TooMany
 from falsesums.fields import Field
 from falsesums.fillings import fillings
@@ -314,6 +314,44 @@ class Free(unittest.TestCase):
             self.assertEqual([free(system, degree) for degree in range(4)], [0, 1, 0, 0])
             system = System(FRACTIONS, 2, [place(0).scaled((number, 1)).plus(place(1)), place(1)])
             self.assertEqual(free(system, 1), 0)
+
+    def test_ranks_that_are_less_over_great_primes(self):
+        # Wishes that differ by a multiple of primes from what others make, by all numbers that columns could have.
+        primes = [FIRST_PRIME]
+        for _ in range(2):
+            primes.append(prime_below(primes[-1]))
+        for great in primes + [primes[0] * primes[1], primes[0] * primes[1] * primes[2]]:
+            for number in range(-3, 1012 if great == FIRST_PRIME else 30):
+                wish = place(0).scaled((great, 1)).plus(place(1)).plus(constant(FRACTIONS, -number * great))
+                self.assertEqual(free(System(FRACTIONS, 2, [place(1), wish]), 1), 0)
+
+    def test_ranks_by_hand_with_great_numbers(self):
+        chance = seeded(184)
+        found = []
+        for turn in range(60):
+            great = chance.choice([FIRST_PRIME, prime_below(FIRST_PRIME), 2 ** 31 - 1, 2 ** 61 - 1, 10 ** 9 + 7])
+            places = chance.randint(2, 4)
+            first = some_sum(FRACTIONS, places, 3, chance)
+            noughts = [first]
+            for _ in range(chance.randint(1, 3)):
+                noughts.append(chance.choice(noughts).plus(some_sum(FRACTIONS, places, 2, chance).scaled((great, 1))))
+            noughts.append(noughts[0].plus(noughts[-1]))
+            system = System(FRACTIONS, places, noughts)
+            degree = chance.randint(1, 4)
+            heads = reduced_by_hand(multiples_by_hand(system, degree), 0)
+            many = len(products_by_hand(places, degree)) - 1 - len(heads)
+            found.append(free(system, degree))
+            self.assertEqual(found[-1], None if 0 in heads else many)
+        self.assertGreater(len(set(found)), 4)
+
+    def test_large_ones(self):
+        # At 562 products and hundreds of pairs: what is free are mixtures of fillings, and more.
+        for field in (FRACTIONS, SEVEN):
+            system = System(field, 33, [linear(field, range(at, at + 3), 1) for at in range(0, 33, 3)])
+            word, worths = told(system, 2)
+            self.assertEqual(word, "worths")
+            # Each third of the places has three worths of which two are free; so, too, each two of thirds.
+            self.assertEqual(free(system, 2), 11 * 2 + 55 * 4)
 
     def test_renamed(self):
         chance = seeded(183)

@@ -63,12 +63,12 @@ def lone(columns, at, size):
     return (word, paper)
 
 
-def stepped(columns, goal, size):
-    """As balanced tells, found step by step."""
+def stepped(columns, goal, size, signed_columns=0):
+    """As balanced tells, found step by step; the first so many columns weigh 0, and have shares of either sign."""
     amounts = [0] * size
     for place, number in goal:
         amounts[place] = number
-    basis, place = settled(columns, amounts)
+    basis, place = settled(columns, amounts, signed_columns)
     if place is not None:
         sign = 1 if basis.amount(place) < 0 else -1
         return ("weights", [(sign * number, 1) for number in basis.unit_parts(place)])

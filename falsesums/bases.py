@@ -6,6 +6,7 @@ column comes in for it; lacks never come back. Where no column can come in, the 
 Each column has a cost from nought on, and comes in where it makes no other cost fall below nought: so what
 is paid for all never becomes less, and steps never go round in a circle but perhaps where a cost is nought;
 there, sooner or later, the first ones that can be are taken, and steps by these never do.
+Columns that may be below nought come in ahead of all steps, cost nothing, and never go out.
 """
 
 from falsesums.packing import in_every_slot, packed, signed_slot, unpacked_signed
@@ -37,11 +38,13 @@ class Basis:
     These numbers, and costs, are over the bottom, and are whole: it is the determinant of what stands.
     """
 
-    def __init__(self, columns, goal):
+    def __init__(self, columns, goal, signed_columns):
         self.columns = columns
+        # The first so many columns may be below nought.
+        self.signed_columns = signed_columns
         self.size = len(goal)
         self.standing = [None] * self.size
-        self.costs = some_costs(len(columns))
+        self.costs = [0] * signed_columns + some_costs(len(columns) - signed_columns)
         self.free_steps = 0
         self.bottom = 1
         # Each number in a side, and the bottom, is below 2 to the height, up or down.
@@ -106,7 +109,8 @@ class Basis:
         wrong = [place for place, amount in enumerate(amounts) if amount and self.standing[place] is None]
         if wrong:
             return self.worst(wrong, amounts)
-        wrong = [place for place, amount in enumerate(amounts) if amount < 0]
+        wrong = [place for place, amount in enumerate(amounts)
+                 if amount < 0 and self.standing[place] >= self.signed_columns]
         if not wrong:
             return None
         if self.free_steps > MOST_FREE_STEPS:
@@ -151,10 +155,22 @@ class Basis:
         self.standing[place] = at
         self.see_to_height()
 
+    def take_signed(self):
+        """Lets each column that may be below nought stand somewhere, but those that others make up."""
+        unpaid = [0] * len(self.columns)
+        for at in range(self.signed_columns):
+            rates = self.rates(at)
+            lacks = [place for place, rate in enumerate(rates) if rate and self.standing[place] is None]
+            if lacks:
+                # Where nothing lacks, and by a small number: so little changes, and numbers stay small.
+                self.swap(min(lacks, key=lambda one: (self.amount(one) != 0, abs(rates[one]))), at, unpaid)
+        self.free_steps = 0
 
-def settled(columns, goal):
+
+def settled(columns, goal, signed_columns):
     """A tuple of a basis and None, where all stands well, or else the place at which no column can come in."""
-    basis = Basis(columns, goal)
+    basis = Basis(columns, goal, signed_columns)
+    basis.take_signed()
     place = basis.leaving()
     while place is not None:
         parts = basis.parts(place)

@@ -15,10 +15,25 @@ def checked_degree(degree):
 
 def many_products(places, size):
     """How many products of at most so many of the places there are."""
+    return many_choices(places, size, 1)
+
+
+def many_pairs(system, degree):
+    """How many pairs of a nought and a product of the system come within the degree."""
+    return sum([many_products(system.places(), degree - nought.degree()) for nought in system.noughts()])
+
+
+def many_brackets(places, size):
+    """How many brackets of at most so many of the places there are: each place is held or lacked."""
+    return many_choices(places, size, 2)
+
+
+def many_choices(places, size, ways):
+    """In how many ways at most so many of the places can be taken, each in so many ways."""
     total, alike = 0, 1
     for many in range(min(size, places) + 1):
         total += alike
-        alike = alike * (places - many) // (many + 1)
+        alike = alike * (places - many) * ways // (many + 1)
     return total
 
 

@@ -34,12 +34,22 @@ def mixed(system, degree, weights):
     return {product: system.field().made(total, bottom) for product, total in totals.items()}
 
 
-def weights_of(system, degree, worths):
-    """The weights by which worths of the top degree, or a greater one, were mixed."""
+def checked_top(system, degree):
+    """Refuses a degree that is none, or is below the system's top degree."""
     if checked_degree(degree) < system.top():
         raise NoDegree("weights are told from the top degree on")
+
+
+def weights_of(system, degree, worths):
+    """The weights by which worths of the top degree, or a greater one, were mixed."""
+    checked_top(system, degree)
     if not lets_worths(system, degree, worths):
         raise NoWorths("weights are told of worths of the degree")
+    return mixing_weights(system, worths)
+
+
+def mixing_weights(system, worths):
+    """The weights by which worths of all products, which are such, were mixed."""
     wholes = whole_by_mask(worths)
     # The last place as the lowest bit: so fillings are numbered as they are sorted.
     found = bracket_worths(wholes, list(range(system.places() - 1, -1, -1)))

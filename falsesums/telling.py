@@ -1,7 +1,7 @@
 """Which of the two papers of the first kind is there at a degree, and that paper."""
 
 from falsesums.answers import answer, rank
-from falsesums.degrees import all_products, checked_degree, many_products
+from falsesums.degrees import all_products, checked_degree, many_pairs, many_products
 from falsesums.errors import TooMany
 from falsesums.fields import whole_tops
 from falsesums.masks import mask_of, mask_terms
@@ -14,10 +14,9 @@ MOST_TOLD_PAIRS = 2000
 def checked_size(system, degree):
     """Refuses a degree that is none, and one at which there is too much to be told."""
     checked_degree(degree)
-    places = system.places()
-    if many_products(places, degree) > MOST_TOLD_PRODUCTS:
+    if many_products(system.places(), degree) > MOST_TOLD_PRODUCTS:
         raise TooMany("papers are told of at most 600 products")
-    if sum([many_products(places, degree - nought.degree()) for nought in system.noughts()]) > MOST_TOLD_PAIRS:
+    if many_pairs(system, degree) > MOST_TOLD_PAIRS:
         raise TooMany("papers are told of at most 2000 pairs of a nought and a product")
 
 

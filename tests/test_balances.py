@@ -315,6 +315,30 @@ class Steps(Balancing):
                     self.looked_at(fractions_of(rows), fractions_of([goal])[0], (word, paper))
                     self.assertGreater(len(seen), most)
 
+    def test_columns_of_either_sign(self):
+        # As if each of them stood there twice, once with all signs turned.
+        chance = seeded(203)
+        words = []
+        for turn in range(300):
+            size, many, either = chance.randint(1, 5), chance.randint(0, 7), chance.randint(0, 4)
+            rows = [[chance.randint(-2, 2) for _ in range(size)] for _ in range(either + many)]
+            if either > 1 and turn % 2:
+                rows[1] = [2 * number for number in rows[0]]
+            goal = [chance.randint(-2, 2) for _ in range(size)]
+            columns = [[(at, number) for at, number in enumerate(row) if number] for row in rows]
+            word, paper = stepped(columns, [(at, number) for at, number in enumerate(goal) if number], size, either)
+            words.append(word)
+            turned = [[-number for number in row] for row in rows[:either]]
+            self.assertEqual(balance(fractions_of(rows + turned), fractions_of([goal])[0])[0], word)
+            if word == "shares":
+                shares = [fraction_of(paper.get(at, (0, 1))) for at in range(len(rows))]
+                self.assertTrue(all(share >= 0 for share in shares[either:]))
+                self.assertEqual(made_goal(rows, shares, size), goal)
+            else:
+                self.looked_at(fractions_of(rows + turned), fractions_of([goal])[0], (word, paper))
+        self.assertGreater(words.count("shares"), 50)
+        self.assertGreater(words.count("weights"), 50)
+
     def test_costs_have_no_pattern(self):
         self.assertGreater(len(set(bases.some_costs(4000))), 3990)
         self.assertTrue(all(cost > 0 for cost in bases.some_costs(4000)))

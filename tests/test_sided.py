@@ -3,7 +3,6 @@
 import copy
 import unittest
 
-from falsesums.balances import balance
 from falsesums.errors import NoDegree, NoField
 from falsesums.fields import Field
 from falsesums.fillings import fillings
@@ -13,9 +12,9 @@ from falsesums.sided import bracket_sum, is_bracket, lets_sided, lets_sided_wort
 from falsesums.sums import Sum
 from falsesums.systems import System
 from falsesums.telling import told
-from tests.helper import (FRACTIONS, SOME_FIELDS, Stubborn, added_by_hand, all_rows, constant, guests, linear,
-                          odd_things, place, products_by_hand, seeded, some_sum, some_system, worth_by_worths,
-                          worths_by_hand)
+from tests.helper import (FRACTIONS, SOME_FIELDS, Stubborn, added_by_hand, all_rows, bracket_at, brackets_by_hand, constant,
+                          guests, linear, odd_things, place, products_by_hand, seeded, sided_by_hand, sided_told,
+                          sided_worths_by_hand, some_sum, some_system)
 
 ONE = (1, 1)
 MINUS = (-1, 1)
@@ -26,76 +25,6 @@ NO_BRACKETS = [thing for thing in odd_things() if repr(thing) != "((), ())"]
 NO_BRACKETS += [((0,), (0,)), ((0, 1), (1, 2)), ((1, 0), ()), ((), (2, 1)), ((0, 0), ()), ((60,), ()),
                 ((), (-1,)), ((True,), ()), ((), (True,)), ([0], ()), ((), [0]), [(0,), (1,)],
                 ((0,), (1,), (2,)), ((0,),), (0, 1), ("0", ()), ((0,), None), (None, ()), ((Stubborn(),), ())]
-
-
-def brackets_by_hand(places, size):
-    """All brackets of at most this size."""
-    found = []
-    for both in products_by_hand(places, size):
-        for row in all_rows(len(both)):
-            found.append((tuple(at for at, bit in zip(both, row) if bit), tuple(at for at, bit in zip(both, row) if not bit)))
-    return found
-
-
-def bracket_at(bracket, row):
-    return int(all(row[at] for at in bracket[0]) and not any(row[at] for at in bracket[1]))
-
-
-def sided_by_hand(system, degree, thing):
-    """Whether what has the form of a sided showing is one, all multiplied out."""
-    multipliers, rows = thing
-    uppers = system.uppers()
-    pairs = list(zip(multipliers, system.noughts(), strict=True))
-    if any(len(one) and one.degree() + nought.degree() > degree for one, nought in pairs):
-        return False
-    for bracket, number, share in rows:
-        size = len(bracket[0]) + len(bracket[1]) + (0 if number is None else uppers[number].degree())
-        if size > degree or share[0] <= 0:
-            return False
-        upper = constant(FRACTIONS, 1) if number is None else uppers[number]
-        pairs.append((bracket_sum(bracket).scaled(share), upper))
-    return added_by_hand(FRACTIONS, pairs) == {(): -1}
-
-
-def sided_worths_by_hand(system, degree, worths):
-    """Whether worths are sided ones, each bracket being looked at."""
-    for bracket in brackets_by_hand(system.places(), degree):
-        if worth_by_worths(worths, FRACTIONS, bracket_sum(bracket)) < 0:
-            return False
-    for upper in system.uppers():
-        for bracket in brackets_by_hand(system.places(), degree - upper.degree()):
-            if worth_by_worths(worths, FRACTIONS, bracket_sum(bracket).times(upper)) < 0:
-                return False
-    return worths_by_hand(system, degree, worths)
-
-
-def sided_told(system, degree):
-    """One of the two papers of the second kind, found as shares or weights."""
-    products = products_by_hand(system.places(), degree)
-    sources, sums = [], []
-    for number, nought in enumerate(system.noughts()):
-        for product in products_by_hand(system.places(), degree - nought.degree()):
-            for sign in (ONE, MINUS):
-                sources.append((number, product, sign))
-                sums.append(nought.times(Sum(FRACTIONS, [(product, sign)])))
-    for bracket in brackets_by_hand(system.places(), degree):
-        sources.append((bracket, None))
-        sums.append(bracket_sum(bracket))
-    for number, upper in enumerate(system.uppers()):
-        for bracket in brackets_by_hand(system.places(), degree - upper.degree()):
-            sources.append((bracket, number))
-            sums.append(bracket_sum(bracket).times(upper))
-    columns = [[dict(one.terms()).get(product, (0, 1)) for product in products] for one in sums]
-    word, paper = balance(columns, [MINUS] + [(0, 1)] * (len(products) - 1))
-    if word == "weights":
-        return ("worths", {product: FRACTIONS.over(weight, paper[0]) for product, weight in zip(products, paper)})
-    terms, rows = [[] for _ in system.noughts()], []
-    for source, share in zip(sources, paper):
-        if len(source) == 3 and share[0]:
-            terms[source[0]].append((source[1], FRACTIONS.times(share, source[2])))
-        elif share[0]:
-            rows.append((source[0], source[1], share))
-    return ("showing", ([Sum(FRACTIONS, one) for one in terms], rows))
 
 
 class Brackets(unittest.TestCase):

@@ -78,10 +78,10 @@ def led_degree(one, other, leading, degree):
 
 def added_products(field, pairs):
     """All pairs of sums, multiplied and added up."""
-    total = Sum(field)
+    terms = []
     for one, other in pairs:
-        total = total.plus(one.times(other))
-    return total
+        terms.extend(one.times(other).terms())
+    return Sum(field, terms)
 
 
 def carried(one, other, leading, degree, showing):

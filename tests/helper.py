@@ -287,5 +287,45 @@ def sided_told(system, degree):
     return ("showing", ([Sum(FRACTIONS, one) for one in terms], rows))
 
 
+def swapped_rooms(many, rooms, one, other):
+    """The order by which two rooms are called otherwise."""
+    called = {one: other, other: one}
+    return [guest * rooms + called.get(room, room) for guest in range(many) for room in range(rooms)]
+
+
+def swapped_guests(many, rooms, one, other):
+    """The order by which two guests are called otherwise."""
+    called = {one: other, other: one}
+    return [called.get(guest, guest) * rooms + room for guest in range(many) for room in range(rooms)]
+
+
+def turned(places, by=1):
+    """Each place becomes the next one, the last the first."""
+    return [(at + by) % places for at in range(places)]
+
+
+def alike_system(field, places, chance, uppers=False):
+    """A system that has the likenesses of some orders, made by chance: all that they lead a wish to is wished."""
+    orders = [list(range(places)) for _ in range(chance.randint(0, 2))]
+    for order in orders:
+        chance.shuffle(order)
+    parts = []
+    for _ in range(2):
+        found = []
+        for _ in range(chance.randint(0, 2)):
+            new = [Sum(field, [(tuple(sorted(chance.sample(range(places), chance.randint(0, 2)))), field.made(chance.randint(1, 3)))
+                               for _ in range(2)])]
+            listed = []
+            while new:
+                wish = new.pop()
+                if wish not in listed:
+                    listed.append(wish)
+                    new += [wish.renamed(order) for order in orders]
+            found += listed * chance.randint(1, 2)
+        chance.shuffle(found)
+        parts.append(found)
+    return System(field, places, parts[0], parts[1] if uppers and not field.prime() else []), orders
+
+
 FRACTIONS = Field()
 SOME_FIELDS = [Field(0), Field(2), Field(3), Field(7), Field(97)]

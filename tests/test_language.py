@@ -36,6 +36,11 @@ BARRED_WORDS = re.compile(r"\b(type|typing|typing_extensions|enum|Enum|IntEnum|S
                           r"|dataclass|overload|contextmanager")
 AT_ONCE = {"zip", "enumerate", "reversed", "range"}
 TAKE_AT_ONCE = {"list", "tuple", "dict", "sorted", "sum", "any", "all", "enumerate", "zip", "bytes", "min", "max"}
+BUILTIN_ATTRIBUTES = {name for kind in (str, int, list, dict, set, bytes) for name in dir(kind) if not name.startswith("__")}
+FREE_METHODS = set("""append clear copy count endswith extend find get index insert isalnum isalpha isdigit islower isspace
+    isupper join ljust lower lstrip partition pop remove replace reverse rfind rjust rpartition rsplit rstrip setdefault split
+    splitlines startswith strip update upper zfill bit_length add discard""".split())
+FREE_ATTRIBUTES = {"count", "index", "title", "find", "get", "join", "lower", "upper", "split", "strip", "copy", "add"}
 BUILTIN_KEYWORDS = {"sorted": {"key", "reverse"}, "min": {"key", "default"}, "max": {"key", "default"}, "sum": {"start"},
                     "enumerate": {"start"}, "zip": {"strict"}}
 
@@ -137,7 +142,9 @@ def tree_breaches(tree, methods, attributes, classes):
             found += class_breaches(node)
         if isinstance(node, ast.AST):
             found += child_breaches(node, classes)
-    return found
+        for rule in (own_name_breaches, method_breaches, loop_breaches, set_breaches, literal_breaches):
+            found += [f"{breach} at line {node.lineno}" for breach in rule(node)]
+    return found + table_breaches(tree) + lambda_breaches(tree)
 
 
 def module_breaches(tree):
@@ -332,6 +339,119 @@ def class_use(node, name, child):
     return isinstance(node, (ast.ClassDef, ast.ExceptHandler, ast.Tuple))
 
 
+def own_name_breaches(node):
+    """L26: methods and attributes that builtin values have under the same name."""
+    if isinstance(node, ast.ClassDef):
+        for item in node.body:
+            if isinstance(item, ast.FunctionDef) and item.name in BUILTIN_ATTRIBUTES - FREE_METHODS:
+                yield f"L26 {item.name}"
+    if isinstance(node, ast.Attribute) and isinstance(node.ctx, ast.Store):
+        if node.attr in BUILTIN_ATTRIBUTES - FREE_ATTRIBUTES | {"args", "format"}:
+            yield f"L26 {node.attr}"
+
+
+def method_breaches(node):
+    """L22, L25: methods of builtin values have no keywords, and are called where they stand; builtins have their arguments."""
+    takes = {"len": (1, 1), "abs": (1, 1), "sorted": (1, 1), "any": (1, 1), "all": (1, 1), "sum": (1, 2), "reversed": (1, 1),
+             "enumerate": (1, 2), "list": (0, 1), "tuple": (0, 1), "dict": (0, 1), "set": (0, 1), "str": (0, 1), "bool": (0, 1),
+             "int": (0, 2), "ord": (1, 1), "repr": (1, 1), "isinstance": (2, 2), "range": (1, 3), "divmod": (2, 2)}
+    if isinstance(node, ast.Call) and isinstance(node.func, ast.Name) and node.func.id in takes:
+        fewest, most = takes[node.func.id]
+        if not fewest <= len(node.args) <= most:
+            yield f"L22 {node.func.id}"
+    if isinstance(node, ast.Call) and isinstance(node.func, ast.Attribute):
+        if node.func.attr in METHODS and node.keywords:
+            yield f"L25 {node.func.attr}: a keyword"
+        if node.func.attr == "sort":
+            yield "L25 sort"
+
+
+def modified(node):
+    """What this statement or call modifies: the things themselves, not what stands in them."""
+    modifying = {"append", "clear", "extend", "insert", "pop", "remove", "reverse", "setdefault", "update", "add", "discard"}
+    found = []
+    if isinstance(node, ast.Call) and isinstance(node.func, ast.Attribute) and node.func.attr in modifying:
+        found.append(ast.unparse(node.func.value))
+    targets = node.targets if isinstance(node, (ast.Assign, ast.Delete)) else [node.target] if isinstance(node, ast.AugAssign) else []
+    found += [ast.unparse(target.value) for target in targets if isinstance(target, ast.Subscript)]
+    if isinstance(node, ast.AugAssign):
+        found.append(ast.unparse(node.target))
+    return found
+
+
+def iterated(node):
+    """What a loop goes over, also through enumerate, zip and the like."""
+    if calls(node, {"enumerate", "zip", "reversed"}):
+        return [one for part in node.args for one in iterated(part)]
+    if isinstance(node, ast.Call) and isinstance(node.func, ast.Attribute) and node.func.attr in ("items", "keys", "values"):
+        return [ast.unparse(node.func.value)]
+    return [ast.unparse(node)]
+
+
+def loop_breaches(node):
+    if isinstance(node, ast.For):
+        over = iterated(node.iter)
+        for part in node.body:
+            for inner in ast.walk(part):
+                if set(modified(inner)) & set(over):
+                    yield f"L23 {ast.unparse(inner)}"
+
+
+def set_breaches(node):
+    """L24: a set that is stored is assigned once, and only asked, added to and counted."""
+    if not isinstance(node, ast.FunctionDef):
+        return
+    made = [part for part in ast.walk(node) if isinstance(part, ast.Assign)
+            and (calls(part.value, {"set"}) or isinstance(part.value, (ast.Set, ast.SetComp)))]
+    for assigned in made:
+        name = assigned.targets[0].id
+        allowed = {id(assigned.targets[0])}
+        for part in ast.walk(node):
+            if isinstance(part, ast.Compare):
+                allowed |= {id(right) for right in part.comparators}
+            if isinstance(part, ast.Call) and isinstance(part.func, ast.Attribute) and part.func.attr in ("add", "discard"):
+                allowed.add(id(part.func.value))
+            if calls(part, {"len", "sorted"}):
+                allowed |= {id(argument) for argument in part.args}
+            if isinstance(part, (ast.If, ast.While)):
+                allowed.add(id(part.test))
+        for part in ast.walk(node):
+            if isinstance(part, ast.Name) and part.id == name and id(part) not in allowed:
+                yield f"L24 {name}"
+
+
+def literal_breaches(node):
+    """L13: a set of three whole numbers or more is not written out, but where it is asked on the spot."""
+    for name, value in ast.iter_fields(node):
+        for child in value if isinstance(value, list) else [value]:
+            if isinstance(child, ast.Set) and not isinstance(node, ast.Compare):
+                if len([one for one in child.elts if isinstance(one, ast.Constant) and isinstance(one.value, int)]) > 2:
+                    yield "L13 a set"
+
+
+def lambda_breaches(tree):
+    """L13: two lambdas with the same parameters on one line."""
+    seen = [(node.lineno, tuple(one.arg for one in node.args.args)) for node in ast.walk(tree) if isinstance(node, ast.Lambda)]
+    return [f"L13 two lambdas at line {one[0]}" for one in set(seen) if seen.count(one) > 1]
+
+
+def table_breaches(tree):
+    """L15: lists and dicts at module level have none in them, and are only read."""
+    tables, found = set(), []
+    for node in tree.body:
+        if isinstance(node, ast.Assign) and isinstance(node.value, (ast.List, ast.Dict)):
+            tables.add(node.targets[0].id)
+            inner = [part for part in ast.walk(node.value) if isinstance(part, (ast.List, ast.Dict))]
+            if len(inner) > 1:
+                found.append(f"L15 line {node.lineno}: a table in a table")
+    for node in ast.walk(tree):
+        if isinstance(node, (ast.stmt, ast.Call)):
+            found += [f"L15 {name} is modified" for name in modified(node) if name.split("[")[0] in tables]
+        if isinstance(node, (ast.Return, ast.Assign)) and isinstance(node.value, ast.Name) and node.value.id in tables:
+            found.append(f"L15 {node.value.id} is given away")
+    return found
+
+
 class Package(unittest.TestCase):
     def test_only_python_files(self):
         names = [path.name for path in FOLDER.iterdir() if path.name != "__pycache__"]
@@ -365,6 +485,7 @@ class Looking(unittest.TestCase):
         "L8": "def one(many):\n    return hash(many)\n",
         "L10": "def one(many):\n" + "    many += 1\n" * 40 + "    return many\n",
         "L12": "def one(_many):\n    return 1\n",
+        "L13": "def one(many):\n    return sorted({1, 2, 3})\n",
         "L14": "# caf\u00e9\n",
         "L15": "def one(list):\n    return 1\n",
         "L16": "import sys\n",
@@ -376,6 +497,7 @@ class Looking(unittest.TestCase):
         "L23": "def one(many):\n    rows = range(many)\n    return rows\n",
         "L24": "def one(many):\n    return set(many)\n",
         "L25": "def one(many):\n    return many.partitioned()\n",
+        "L26": "class One:\n    def decode(self):\n        return 1\n",
         "L27": "def one(many):\n    return 2 ** many\n",
         "L28": "class One:\n    def __len__(self):\n        return 1 + 1\n",
     }
@@ -385,9 +507,34 @@ class Looking(unittest.TestCase):
             with self.subTest(rule=rule):
                 self.assertTrue([told for told in breaches({"one.py": text}) if told.startswith(rule + " ")])
 
+    MORE_CASES = [
+        ("L13", "def one(xs):\n    return sorted(xs, key=lambda x: x), sorted(xs, key=lambda x: -x)\n"),
+        ("L15", "TABLE = [1]\n\n\ndef one(many):\n    TABLE.append(many)\n"),
+        ("L15", "TABLE = {1: [2]}\n"),
+        ("L15", "TABLE = {1: 2}\n\n\ndef one():\n    return TABLE\n"),
+        ("L22", "def one(many):\n    return len(many, many)\n"),
+        ("L23", "def one(xs):\n    for x in xs:\n        xs.append(x)\n"),
+        ("L23", "def one(xs):\n    for at, x in enumerate(xs):\n        xs[at] = 1\n"),
+        ("L23", "def one(xs):\n    for x in xs.items():\n        del xs[x]\n"),
+        ("L24", "def one(xs):\n    seen = set(xs)\n    return seen\n"),
+        ("L24", "def one(xs):\n    seen = set(xs)\n    return [x for x in seen]\n"),
+        ("L25", "def one(xs):\n    xs.sort()\n"),
+        ("L25", "def one(x):\n    return x.split(sep='a')\n"),
+        ("L26", "class One:\n    def one(self):\n        self.items = 1\n"),
+    ]
+
+    def test_more_of_some_rules(self):
+        for rule, text in self.MORE_CASES:
+            with self.subTest(rule=rule, text=text):
+                self.assertTrue([told for told in breaches({"one.py": text}) if told.startswith(rule + " ")])
+
     def test_right_code(self):
-        text = "def one(many):\n    return [k * 2 for k in range(many) if k in (1, 2)]\n"
-        self.assertEqual(breaches({"one.py": text}), [])
+        for text in ("def one(many):\n    return [k * 2 for k in range(many) if k in (1, 2)]\n",
+                     "def one(xs):\n    seen = set()\n    for x in xs:\n        if x not in seen:\n            seen.add(x)\n"
+                     "    return sorted(seen)\n",
+                     "TABLE = {1: (2, 3)}\n\n\ndef one(k):\n    return dict(TABLE) if k in TABLE else TABLE[k]\n",
+                     "def one(xs):\n    for x in list(xs):\n        xs.append(x)\n"):
+            self.assertEqual(breaches({"one.py": text}), [])
 
 
 if __name__ == "__main__":

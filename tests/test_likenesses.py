@@ -9,29 +9,13 @@ from falsesums.fields import Field
 from falsesums.likenesses import is_likeness, pair_classes, product_classes
 from falsesums.sums import Sum
 from falsesums.systems import System
-from tests.helper import (FRACTIONS, SOME_FIELDS, Stubborn, constant, guests, linear, odd_things, place, products_by_hand,
-                          seeded, some_system)
+from tests.helper import (FRACTIONS, SOME_FIELDS, Stubborn, alike_system, constant, guests, linear, odd_things, place,
+                          products_by_hand, seeded, some_system, swapped_guests, swapped_rooms, turned)
 
 ONE = (1, 1)
 TWO = Field(2)
 SEVEN = Field(7)
 NO_DEGREES = [-1, 301, 10 ** 40, 1.0] + odd_things()
-
-
-def swapped_rooms(many, rooms, one, other):
-    """The order by which two rooms are called otherwise."""
-    called = {one: other, other: one}
-    return [guest * rooms + called.get(room, room) for guest in range(many) for room in range(rooms)]
-
-
-def swapped_guests(many, rooms, one, other):
-    called = {one: other, other: one}
-    return [called.get(guest, guest) * rooms + room for guest in range(many) for room in range(rooms)]
-
-
-def turned(places, by=1):
-    """Each place becomes the next one, the last the first."""
-    return [(at + by) % places for at in range(places)]
 
 
 def is_likeness_by_hand(system, order):
@@ -47,29 +31,6 @@ def is_likeness_by_hand(system, order):
 
 def likenesses_by_hand(system):
     return [list(order) for order in itertools.permutations(range(system.places())) if is_likeness_by_hand(system, list(order))]
-
-
-def alike_system(field, places, chance, uppers=False):
-    """A system that has the likenesses of some orders, made by chance: all that they lead a wish to is wished."""
-    orders = [list(range(places)) for _ in range(chance.randint(0, 2))]
-    for order in orders:
-        chance.shuffle(order)
-    parts = []
-    for _ in range(2):
-        found = []
-        for _ in range(chance.randint(0, 2)):
-            new = [Sum(field, [(tuple(sorted(chance.sample(range(places), chance.randint(0, 2)))), field.made(chance.randint(1, 3)))
-                               for _ in range(2)])]
-            listed = []
-            while new:
-                wish = new.pop()
-                if wish not in listed:
-                    listed.append(wish)
-                    new += [wish.renamed(order) for order in orders]
-            found += listed * chance.randint(1, 2)
-        chance.shuffle(found)
-        parts.append(found)
-    return System(field, places, parts[0], parts[1] if uppers and not field.prime() else []), orders
 
 
 def by_size(product):
